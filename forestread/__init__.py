@@ -1,0 +1,1 @@
+"""Forestread: all trees of a text in one wood."""
