@@ -58,3 +58,22 @@ def lists_and_tuples():
         [], (), [[]], [()], ([],), ((),), [None], (None,), ["S"], ("S",), ["'", "a"], ("'", "a"),
         [0], (0,), [Touchy()], (Touchy(),), ring_list(), (ring_list(),), [{}], ({},),
     ]
+
+
+def no_texts():
+    return other_kinds() + whole_numbers() + lists_and_tuples() + other_texts() + ["a" * 61, ["a"], ("a",)]
+
+
+def no_grammars():
+    things = other_kinds() + whole_numbers() + other_texts()
+    return things + [(), "", "S 0 =", [None], [("S", (), True)], [["S", (), 0]], (("S", (), 0),), [("S", (), 0)] * 61]
+
+
+def no_costs():
+    great = 10 ** 60
+    return other_kinds() + whole_numbers() + other_texts() + lists_and_tuples() + [
+        (1,), (1, 1), (1, 1, 1, 1), [1, 1, 1], "111", "", (True, 1, 1), (1, False, 1), (1, 1, True),
+        (-1, 1, 1), (1, -1, 1), (1, 1, -1), (great + 1, 1, 1), (1, great + 1, 1), (1, 1, great + 1),
+        (None, 1, 1), (1, None, 1), (1, 1, None), ("1", 1, 1), (1, 1, "1"), (1.0, 1, 1), (1, 1, 1.0), ((1, 1, 1),),
+        ([1], 1, 1), (Touchy(), 1, 1), (1, 1, Touchy()), {1: 1, 2: 2, 3: 3}, {1, 2, 3}, iter((1, 1, 1)),
+    ]

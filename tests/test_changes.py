@@ -2,21 +2,14 @@ import copy
 import itertools
 
 import plain
-from anything import Touchy, lists_and_tuples, other_kinds, other_texts, ring_list, whole_numbers
+from anything import Touchy, lists_and_tuples, no_costs, no_texts, other_kinds, other_texts, ring_list, whole_numbers
 from forestread.changes import changed, cost_of
 from forestread.errors import NoChange, NoCosts, NoText
 from refusals import RefusalTest
 
 COSTS = (3, 5, 7)
 SIGNS = [chr(code) for code in range(32, 127) if chr(code) != chr(37)]
-NO_TEXTS = other_kinds() + whole_numbers() + lists_and_tuples() + other_texts() + ["a" * 61, ["a"], ("a",)]
 NO_SIGNS = ["", "ab", "aa", "  ", "\n", "\t", "'a"] + other_kinds() + whole_numbers() + lists_and_tuples() + other_texts()
-NO_COSTS = [
-    (), (1,), (1, 1), (1, 1, 1, 1), [1, 1, 1], [], "111", "", (True, 1, 1), (1, False, 1), (1, 1, True),
-    (-1, 1, 1), (1, -1, 1), (1, 1, -1), (10 ** 60 + 1, 1, 1), (1, 10 ** 60 + 1, 1), (1, 1, 10 ** 60 + 1),
-    (None, 1, 1), (1, None, 1), (1, 1, None), ("1", 1, 1), (1, 1, "1"), (1.0, 1, 1), (1, 1, 1.0), ((1, 1, 1),),
-    ([1], 1, 1), (Touchy(), 1, 1), (1, 1, Touchy()), {1: 1, 2: 2, 3: 3}, {1, 2, 3}, iter((1, 1, 1)), range(3), None, 1,
-]
 
 
 class ChangesTest(RefusalTest):
@@ -119,7 +112,7 @@ class ChangedTest(ChangesTest):
 
     def test_no_text_is_refused_ahead(self):
         for deeds in ([], [("keep", "a")], None, (), Touchy(), [None]):
-            self.check_all_refused(NoText, lambda thing: changed(thing, deeds), NO_TEXTS)
+            self.check_all_refused(NoText, lambda thing: changed(thing, deeds), no_texts())
 
 
 class CostTest(ChangesTest):
@@ -137,17 +130,17 @@ class CostTest(ChangesTest):
         self.assertEqual(cost_of("abd", deeds, (great, 0, great - 1)), 2 * great - 1)
 
     def test_no_costs(self):
-        self.check_all_refused(NoCosts, lambda thing: cost_of("a", [("keep", "a")], thing), NO_COSTS)
+        self.check_all_refused(NoCosts, lambda thing: cost_of("a", [("keep", "a")], thing), no_costs())
         things = other_kinds() + whole_numbers() + other_texts() + lists_and_tuples()
         self.check_all_refused(NoCosts, lambda thing: cost_of("a", [("keep", "a")], thing), things)
 
     def test_no_costs_is_refused_ahead_of_no_change(self):
         for deeds in (None, [], (), Touchy(), [("keep", "b")], [None]):
-            self.check_all_refused(NoCosts, lambda thing: cost_of("a", deeds, thing), NO_COSTS)
+            self.check_all_refused(NoCosts, lambda thing: cost_of("a", deeds, thing), no_costs())
 
     def test_no_text_is_refused_ahead_of_all(self):
         for deeds, costs in (([], COSTS), (None, COSTS), ([], None), (None, None), (Touchy(), Touchy())):
-            self.check_all_refused(NoText, lambda thing: cost_of(thing, deeds, costs), NO_TEXTS)
+            self.check_all_refused(NoText, lambda thing: cost_of(thing, deeds, costs), no_texts())
 
     def test_the_same_behind_refusals(self):
         deeds = [("keep", "a"), ("put", "b")]

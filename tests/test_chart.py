@@ -1,14 +1,12 @@
 import copy
 
 import plain
-from anything import Touchy, lists_and_tuples, other_kinds, other_texts, ring_list, whole_numbers
+from anything import Touchy, no_grammars, no_texts, ring_list
 from forestread.chart import standing
 from forestread.errors import NoGrammar, NoText
 from refusals import RefusalTest
 from samples import NAMED, SUMS, TEXTS, drawn, texts_for
 
-NO_TEXTS = [thing for thing in other_kinds() + whole_numbers() + lists_and_tuples()] + other_texts()
-NO_GRAMMARS = other_kinds() + whole_numbers() + other_texts() + [(), "", [None], [("S", (), True)], [("S", (), 0)] * 61]
 
 
 class StandingTest(RefusalTest):
@@ -117,11 +115,11 @@ class StandingTest(RefusalTest):
 
     def test_no_grammar_is_refused_ahead_of_no_text(self):
         for text in ("a", "", "a" * 61, None, Touchy(), ["a"], "\n"):
-            self.check_all_refused(NoGrammar, lambda thing: standing(thing, text), NO_GRAMMARS)
+            self.check_all_refused(NoGrammar, lambda thing: standing(thing, text), no_grammars())
 
     def test_no_text(self):
         for grammar in ([], SUMS):
-            self.check_all_refused(NoText, lambda thing: standing(grammar, thing), NO_TEXTS + ["a" * 61, ["a"], ring_list()])
+            self.check_all_refused(NoText, lambda thing: standing(grammar, thing), no_texts() + ["a" * 61, ["a"], ring_list()])
 
     def test_each_time_a_new_dict(self):
         grammar = list(SUMS)

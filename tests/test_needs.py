@@ -2,13 +2,12 @@ import copy
 import itertools
 
 import plain
-from anything import Touchy, lists_and_tuples, other_kinds, other_texts, whole_numbers
+from anything import Touchy, lists_and_tuples, no_grammars, other_kinds, other_texts
 from forestread.errors import NoGrammar, NoRow, TooGreat
 from forestread.needs import least, needed, row_with
 from refusals import RefusalTest
 from samples import NAMED, SUMS, drawn, name_of, sized
 
-NO_GRAMMARS = other_kinds() + whole_numbers() + other_texts() + [(), "", [None], [("S", (), True)], [("S", (), 0)] * 61]
 
 
 def doubling(steps):
@@ -77,7 +76,7 @@ class LeastTest(RefusalTest):
         self.assertEqual(least(grammar), {})
 
     def test_no_grammar(self):
-        self.check_all_refused(NoGrammar, least, NO_GRAMMARS)
+        self.check_all_refused(NoGrammar, least, no_grammars())
 
 
 class NeededTest(RefusalTest):
@@ -128,7 +127,7 @@ class NeededTest(RefusalTest):
         self.assertEqual(told, [0, 1, 2, 3])
 
     def test_no_grammar(self):
-        self.check_all_refused(NoGrammar, needed, NO_GRAMMARS)
+        self.check_all_refused(NoGrammar, needed, no_grammars())
 
 
 class RowWithTest(RefusalTest):
@@ -223,7 +222,7 @@ class RowWithTest(RefusalTest):
 
     def test_no_grammar_is_refused_ahead(self):
         for number in (0, -1, None, Touchy(), [], True):
-            self.check_all_refused(NoGrammar, lambda thing: row_with(thing, number), NO_GRAMMARS)
+            self.check_all_refused(NoGrammar, lambda thing: row_with(thing, number), no_grammars())
 
     def test_each_time_a_new_list(self):
         told = row_with(SUMS, 3)

@@ -1,15 +1,13 @@
 import copy
 
 import plain
-from anything import Touchy, lists_and_tuples, other_kinds, other_texts, whole_numbers
+from anything import Touchy, no_grammars, no_texts
 from forestread.chart import standing
 from forestread.errors import NoGrammar, NoText
 from forestread.wood import Wood
 from refusals import RefusalTest
 from samples import NAMED, SUMS, TEXTS, drawn, texts_for
 
-NO_TEXTS = other_kinds() + whole_numbers() + lists_and_tuples() + other_texts()
-NO_GRAMMARS = other_kinds() + whole_numbers() + other_texts() + [(), "", [None], [("S", (), True)], [("S", (), 0)] * 61]
 
 
 class WoodTest(RefusalTest):
@@ -118,11 +116,11 @@ class WoodTest(RefusalTest):
 
     def test_no_grammar_is_refused_ahead_of_no_text(self):
         for text in ("a", "", "a" * 61, None, Touchy(), ["a"], "\n"):
-            self.check_all_refused(NoGrammar, lambda thing: Wood(thing, text), NO_GRAMMARS)
+            self.check_all_refused(NoGrammar, lambda thing: Wood(thing, text), no_grammars())
 
     def test_no_text(self):
         for grammar in ([], SUMS):
-            self.check_all_refused(NoText, lambda thing: Wood(grammar, thing), NO_TEXTS + ["a" * 61, ["a"]])
+            self.check_all_refused(NoText, lambda thing: Wood(grammar, thing), no_texts() + ["a" * 61, ["a"]])
 
 
 class UnchangedTest(RefusalTest):
