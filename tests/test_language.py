@@ -2,6 +2,7 @@ import pathlib
 import unittest
 
 from language import faults
+from language_places import package_faults, place_faults
 
 PACKAGE = pathlib.Path(__file__).resolve().parent.parent / "forestread"
 
@@ -48,6 +49,41 @@ WRONG = [
     "ONE = 1\t\n",
 ]
 
+WRONG_PLACES = [
+    "def f(xs):\n    numbers = range(len(xs))\n    return xs\n",
+    "def f(xs):\n    return reversed(xs)\n",
+    "def f(xs):\n    return zip(xs, reversed(xs))\n",
+    "def f(d):\n    pairs = d.items()\n    return 1\n",
+    "def f(xs):\n    seen = set(xs)\n    return 1\n",
+    "def f(xs):\n    for x in set(xs):\n        pass\n",
+    "def f(xs):\n    return sorted(set(xs), reverse=True)\n",
+    "def f(x):\n    return int(x, base=2)\n",
+    "def f(x):\n    return x.split(sep=' ')\n",
+    "def f(x):\n    return f'{x + 1}'\n",
+    "def f(x):\n    return f'{x:3}'\n",
+    "def f(xs):\n    for x in xs:\n        xs.append(x)\n",
+    "def f(xs):\n    for place, x in enumerate(xs):\n        xs[place] = 1\n",
+    "def f(xs):\n    measure = len\n    return 1\n",
+    "def f(x):\n    a, b = x\n    return a\n",
+    "from forestread.errors import NoText\n\n\ndef f(NoText):\n    return 1\n",
+    "class C:\n    pass\n\n\ndef f(x):\n    C = x\n    return C\n",
+]
+
+WRONG_PACKAGES = [
+    {"a.py": "class A:\n    def told(self):\n        return 1\n", "b.py": "class B:\n    def __init__(self):\n        self.told = 1\n"},
+    {"a.py": "from forestread.b import one\n", "b.py": "two = 2\n"},
+    {"a.py": "from forestread.b import two\n", "b.py": "from forestread.c import two\n", "c.py": "two = 2\n"},
+    {"a.py": "from forestread.b import two\n\none = 1\n", "b.py": "from forestread.a import one\n\ntwo = 2\n"},
+    {"a.py": "from forestread.none import two\n"},
+]
+
+RIGHT_PLACES = [
+    "def f(xs):\n    return sorted(set(xs)) + [x for x in reversed(xs)] + list(zip(xs, xs))\n",
+    "def f(xs):\n    return len(set(xs) - set([1])) if 1 in set(xs) else min(xs, default=0)\n",
+    "def f(x):\n    return f'{x}: {x!r}' if isinstance(x, (int, str)) else max(xs, key=len)\n",
+    "def f(d):\n    for key in list(d):\n        d[key] = 1\n    for key, x in d.items():\n        print(x)\n",
+]
+
 RIGHT = [
     "",
     "\"\"\"Words.\"\"\"\n\nfrom forestread.errors import NoText\n\nONE = 1\nPAIR = (ONE, 'a')\n",
@@ -66,6 +102,28 @@ class LanguageTest(unittest.TestCase):
         for file in files:
             with self.subTest(file.name):
                 self.assertEqual(faults(file.name, file.read_bytes().decode("utf-8")), [])
+
+    def test_where_things_stand_in_each_file(self):
+        for file in sorted(PACKAGE.glob("*.py")):
+            with self.subTest(file.name):
+                self.assertEqual(place_faults(file.name, file.read_text(encoding="utf-8")), [])
+
+    def test_the_files_together(self):
+        sources = {file.name: file.read_text(encoding="utf-8") for file in PACKAGE.glob("*.py")}
+        self.assertEqual(package_faults(sources), [])
+
+    def test_wrong_places_are_seen(self):
+        for source in WRONG_PLACES:
+            with self.subTest(source):
+                self.assertNotEqual(place_faults("some.py", source), [])
+        for sources in WRONG_PACKAGES:
+            with self.subTest(sources):
+                self.assertNotEqual(package_faults(sources), [])
+
+    def test_right_places_are_let_through(self):
+        for source in RIGHT_PLACES:
+            with self.subTest(source):
+                self.assertEqual(place_faults("some.py", source), [])
 
     def test_nothing_else_lies_in_the_package(self):
         others = [file.name for file in PACKAGE.iterdir() if file.suffix != ".py" and file.name != "__pycache__"]
