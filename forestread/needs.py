@@ -64,7 +64,7 @@ def ways_down(rules, sizes):
 
 # A dict from the number of each needed rule to the least number of rules of a row with it.
 def sizes_with(rules, sizes):
-    if not rules or rules[0][0] not in sizes:
+    if not rules:
         return {}
     outer = ways_down(rules, sizes)[0]
     found = {}

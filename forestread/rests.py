@@ -1,5 +1,7 @@
 """What can still follow a beginning of a row: the parts that wait, and what they come to."""
 
+from forestread.wood import numbers_by_head
+
 
 # What waits is a chain of links (part, rest, further): a part, what all behind it comes to, by the place where
 # that begins, and the link behind (None where there is none). So beginnings of rows share what they have alike.
@@ -8,9 +10,7 @@ class Rests:
         self.rules = wood.told_grammar()
         self.tally = tally
         self.known = known
-        self.numbers = {}
-        for number, rule in enumerate(self.rules):
-            self.numbers.setdefault(rule[0], []).append(number)
+        self.numbers = numbers_by_head(self.rules)
         # By part and the place where it ends: the places where it begins, each with the node's value.
         self.begins = {}
         for node in known:

@@ -37,9 +37,10 @@ class Walk:
         if node in self.leading and self.path:
             self.leading[self.path[-1]] = True
 
+    # A node that has been left leads to a ring only where one was met, so the first ring met goes by the path.
     def meet(self, node):
         self.leading[self.path[-1]] = True
-        if self.on_path[node] and self.met is None:
+        if self.met is None:
             self.met = self.path[self.path.index(node):]
 
     def step(self):

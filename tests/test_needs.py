@@ -107,6 +107,13 @@ class NeededTest(RefusalTest):
         self.assertEqual(needed([("S", ("S",), 0), ("S", (), 0)]), [0, 1])
         self.assertEqual(needed(NAMED["round"]), [0, 1, 2, 3, 4])
 
+    def test_names_that_go_down_against_the_order_of_rules(self):
+        chain = [(name_of(number), (name_of(number + 1), "'a"), 0) for number in range(50)] + [(name_of(50), (), 0)]
+        grammar = chain[:1] + chain[:0:-1] + [("ASIDE", ("'a",), 0)]
+        self.assertEqual(needed(grammar), list(range(51)))
+        self.assertEqual(needed(grammar[:20] + grammar[21:]), [])
+        self.assertEqual(row_with(grammar, 1), [0] + list(range(50, 0, -1)))
+
     def test_numbers_rise(self):
         grammar = [("S", ("Z",), 0), ("A", ("'a",), 0), ("Z", ("A",), 0), ("Q", (), 0), ("S", (), 0)]
         self.assertEqual(needed(grammar), [0, 1, 2, 4])
@@ -173,6 +180,16 @@ class RowWithTest(RefusalTest):
             ("T", ("'t",), 0), ("A", ("D",), 0), ("D", (), 0),
         ]
         self.assertEqual(row_with(grammar, 4), [1, 2, 3, 4])
+
+    def test_signs_count_for_nothing(self):
+        grammar = [
+            ("S", ("'a", "'a", "'a", "'a", "T"), 0), ("S", ("A", "T"), 0), ("A", ("'a",), 0), ("T", ("'t",), 0),
+            ("S", ("U", "U", "T"), 0), ("U", (), 0),
+        ]
+        self.assertEqual(row_with(grammar, 3), [0, 3])
+        signs = [(head, (parts + ("'a",) * 6)[:6], worth) for head, parts, worth in sized(1000)]
+        for number in range(len(signs)):
+            self.assertEqual(len(row_with(signs, number)), 1000)
 
     def test_rules_that_are_not_needed(self):
         for grammar in (NAMED["barren"], NAMED["barren ring"], [("S", ("S",), 0), ("A", (), 0)]):

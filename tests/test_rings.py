@@ -74,6 +74,26 @@ class RingsTest(RefusalTest):
         self.assertIsNone(ring(Wood(grammar, "ac")))
         self.assertIsNotNone(ring(Wood(grammar, "az")))
 
+    def test_several_ways_to_one_ring(self):
+        grammar = [
+            ("S", ("A", "'x"), 0), ("S", ("B", "'x"), 0), ("S", ("C", "'x"), 0), ("A", ("R",), 0), ("B", ("R",), 0),
+            ("C", ("'r",), 0), ("R", ("R",), 0), ("R", ("'r",), 0),
+        ]
+        wood = Wood(grammar, "rx")
+        self.assertEqual(set(ring(wood)), {("R", 0, 1), (6, 1, 0, 1)})
+        told = settled(wood)
+        for node in (("A", 0, 1), (3, 1, 0, 1), ("B", 0, 1), (4, 1, 0, 1), (0, 2, 0, 2), (1, 2, 0, 2), ("S", 0, 2)):
+            self.assertIn(node, wood.nodes())
+            self.assertNotIn(node, told)
+        for node in (("C", 0, 1), (2, 2, 0, 2), (7, 1, 0, 1)):
+            self.assertIn(node, told)
+        self.check(grammar, "rx")
+
+    def test_drawn_grammars_of_more_heads(self):
+        for grammar in drawn(52, 60, heads="SABCDE", most_rules=14, most_parts=2):
+            for text in ("a", "ab", "ba"):
+                self.check(grammar, text)
+
     def test_named_grammars(self):
         for grammar in NAMED.values():
             for text in TEXTS + ["1", "1+1", "(1)", "' =", "  0"]:

@@ -200,7 +200,7 @@ class ListedTest(TallyCase):
 
         def rows(most):
             long = int(chance.random() * (most + 1))
-            return sorted([int(chance.random() * 3) for place in range(int(chance.random() * 4))] for row in range(long))
+            return [[int(chance.random() * 3) for place in range(int(chance.random() * 4))] for row in range(long)]
 
         for number in range(3000):
             many = 1 + int(chance.random() * 8)

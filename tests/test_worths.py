@@ -167,6 +167,13 @@ class ToldTest(WorthsTest):
             self.check_refused(TooGreat, told, wood, many)
         self.assertEqual([len(row) for row in told(wood, 1)], [1])
 
+    def test_only_the_best_row_counts_for_best(self):
+        grammar = [("S", ("NAF",), 1), ("S", (), 0)] + sized(1000, 5)
+        wood = Wood(grammar, "")
+        self.assertEqual(best(wood), [1])
+        self.assertEqual(told(wood, 1), [[1]])
+        self.check_refused(TooGreat, told, wood, 2)
+
     def test_a_ring_of_rows_that_grow_too_long(self):
         grammar = [("S", ("S", "NAF"), 1), ("S", ("'a",), 0)] + sized(99, 5)
         wood = Wood(grammar, "a")
