@@ -94,23 +94,24 @@ class Toller:
         self.over[rule[0]][end][begin] = line[-1]
         return True
 
-    # Heads may hang on one another over the same signs: this is done again until nothing changes.
+    # Heads may hang on one another over the same signs: this is done again until nothing changes. It goes to and
+    # fro, as rules mostly stand in an order by which the ones hang on the others, or against it.
     def take_span(self, begin, end):
         for head in self.bare:
             self.over[head][end][begin] = self.bare[head] + (end - begin) * self.cut
         inner = [self.inner_tolls(number, begin, end) for number in range(len(self.rules))]
-        lines = []
+        order = list(range(len(self.rules)))
+        lines = {}
         falling = True
         while falling:
             falling = False
-            lines = []
-            for number in range(len(self.rules)):
-                line = self.line_of(number, begin, end, inner[number])
-                lines.append(line)
-                if self.lower_head(number, begin, end, line):
+            order = list(reversed(order))
+            for number in order:
+                lines[number] = self.line_of(number, begin, end, inner[number])
+                if self.lower_head(number, begin, end, lines[number]):
                     falling = True
-        for number, line in enumerate(lines):
-            for done, toll in enumerate(line):
+        for number in order:
+            for done, toll in enumerate(lines[number]):
                 self.first[number][done][begin].append(toll)
 
     def take_all(self):
