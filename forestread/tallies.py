@@ -125,15 +125,22 @@ def begins_with(row, beginning):
     return row[:len(beginning)] == beginning
 
 
-# Sorted rows, parted so that whatever is put behind the rows of one group comes ahead of the next group's.
-def groups_of(rows):
-    groups = []
-    for row in rows:
-        if groups and begins_with(row, groups[-1][0]):
-            groups[-1].append(row)
-        else:
-            groups.append([row])
-    return groups
+# Of sorted rows those from a place on that begin with the row there: whatever is put behind them, it comes ahead
+# of what is put behind the rows that follow.
+def group_from(rows, place):
+    group = [rows[place]]
+    for row in rows[place + 1:]:
+        if not begins_with(row, group[0]):
+            break
+        group.append(row)
+    return group
+
+
+def longer_rows(group, behind):
+    longer = []
+    for row in group:
+        longer.extend([row + more for more in behind])
+    return sorted(longer)
 
 
 # The first rows in the order of lists.
@@ -155,13 +162,12 @@ class Listed(Tally):
 
     # Not all pairs are made: where the groups ahead have rows enough, the rest can't come among the first ones.
     def both(self, one, other):
+        ahead = sorted(one)
         behind = sorted(other)[:self.most]
         rows = []
-        for group in groups_of(sorted(one)):
-            if len(rows) >= self.most:
-                break
-            longer = []
-            for row in group:
-                longer.extend([row + more for more in behind])
-            rows.extend(sorted(longer))
+        place = 0
+        while place < len(ahead) and len(rows) < self.most:
+            group = group_from(ahead, place)
+            place += len(group)
+            rows.extend(longer_rows(group, behind))
         return rows[:self.most]
